@@ -1,0 +1,1 @@
+"""Folk roped two by two in a house of rooms."""
