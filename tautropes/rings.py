@@ -65,3 +65,65 @@ def go_together(one, other):
     if one[0] != other[0]:
         raise Apart()
     return behind(one, other) == behind(other, one)
+
+
+def all_leaders(house, begin, end, pairs):
+    """All walks from one room to another that lead the first of each pair of closed walks to the second.
+
+    The walks of the pairs are shrunk, from the begin and from the end. Told is ("all",), ("one", walk),
+    ("turns", walk, root), or ("none", numbers): the numbers of at most three pairs that no walk leads
+    together, () where the rooms don't hang together.
+    """
+    if house.way(begin, end) is None:
+        return "none", ()
+    for number, (one, other) in enumerate(pairs):
+        if named(one) != named(other):
+            return "none", (number,)
+    rings = [number for number, pair in enumerate(pairs) if len(pair[0]) > 1]
+    if not rings:
+        return ("all",)
+    return _leaders_with(house, pairs, rings[0])
+
+
+def _leaders_with(house, pairs, first):
+    """All leaders where the first of this pair isn't nothing, and each pair has one name."""
+    walk = leader(house, pairs[first][0], pairs[first][1])
+    turn, _ = root(pairs[first][0])
+    # what goes together with the turn is led alike behind each number of turns, what doesn't by one number at most
+    alike = [number for number, pair in enumerate(pairs) if go_together(turn, pair[0])]
+    others = [number for number, pair in enumerate(pairs) if not go_together(turn, pair[0])]
+    wrong = _not_led(pairs, alike, walk)
+    if wrong:
+        return "none", (first, wrong[0])
+    if not others:
+        return "turns", walk, turn
+    walk = _behind_turns(pairs[others[0]], turn, walk)
+    if walk is None:
+        return "none", (first, others[0])
+    wrong = _not_led(pairs, others, walk)
+    if wrong:
+        return "none", (first, others[0], wrong[0])
+    return "one", walk
+
+
+def _not_led(pairs, numbers, walk):
+    return [number for number in numbers if led_by(pairs[number][0], walk) != pairs[number][1]]
+
+
+def _behind_turns(pair, turn, walk):
+    """So many turns, then the walk, such that they lead this pair's first to its second, or None.
+
+    The first doesn't go together with the turn.
+    """
+    stem, _ = core(turn)
+    first = led_by(pair[0], stem)
+    goal = led_by(led_by(pair[1], turned(walk)), stem)
+    for way in (turn, turned(turn)):
+        ring = led_by(way, stem)
+        now, onward = first, walk
+        # round a ring it grows by no less than at the turn before: once longer than at first it ever grows on
+        while len(now) <= max(len(first), len(goal)):
+            if now == goal:
+                return onward
+            now, onward = led_by(now, ring), behind(way, onward)
+    return None

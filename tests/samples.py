@@ -1,7 +1,8 @@
-"""What many tests hand in: things of every kind, and some houses."""
+"""What many tests hand in and hold answers against: things, houses, companies, plain searches."""
 
 from itertools import product
 
+from tautropes.company import Company
 from tautropes.house import House
 
 
@@ -82,6 +83,16 @@ def two_hubs():
     return House(["zz", "zy"] + names, [(hub, name) for hub in ("zz", "zy") for name in names])
 
 
+def tailed():
+    """A ring of four with a row of two rooms at its room a."""
+    return House(list("abcdpq"), ring_of("abcd") + [("a", "p"), ("p", "q")])
+
+
+def sheaf(middle="xyz"):
+    """Two rooms, a and b, each with a door to each of those in the middle."""
+    return House(["a", "b"] + list(middle), [(hub, room) for hub in "ab" for room in middle])
+
+
 def houses():
     return [one_room(), square(), tree(), two_rings(), grid(), parts()]
 
@@ -106,3 +117,183 @@ def goes_straight_back(walk):
 def all_dicts(keys, values):
     """All dicts from just these keys to these values."""
     return [dict(zip(keys, row)) for row in product(values, repeat=len(keys))]
+
+
+def row_of(names):
+    return list(zip(names, names[1:]))
+
+
+def ropes_in_a_row(folk, posts=()):
+    return Company(list(folk), row_of(folk), posts)
+
+
+def ropes_in_a_ring(folk, posts=()):
+    return Company(list(folk), ring_of(folk), posts)
+
+
+def standing_of(folk, rooms):
+    """The folk in the rooms, one by one."""
+    assert len(folk) == len(rooms)
+    return dict(zip(folk, rooms))
+
+
+def fits(house, company, standing):
+    """The plain words of what a standing is, of a dict from all folk to rooms."""
+    doors = house.doors()
+    for one, other in company.ropes():
+        pair = (standing[one], standing[other])
+        if pair[0] != pair[1] and pair not in doors and pair[::-1] not in doors:
+            return False
+    return True
+
+
+def all_standings(house, company):
+    return [thing for thing in all_dicts(company.folk(), house.rooms()) if fits(house, company, thing)]
+
+
+def rooms_by(company, standing):
+    """A standing as a tuple of rooms in the order of folk."""
+    return tuple(standing[who] for who in company.folk())
+
+
+def one_going_on(house, company, rooms, still=()):
+    """All (folk, rooms) by one plain going of one who isn't still, standings as tuples of rooms."""
+    folk = company.folk()
+    for place, who in enumerate(folk):
+        if who in company.posts() or who in still:
+            continue
+        near = [rooms[folk.index(other)] for other in company.roped(who)]
+        for room in house.beside(rooms[place]):
+            beside = house.beside(room)
+            if all(other == room or other in beside for other in near):
+                yield who, rooms[:place] + (room,) + rooms[place + 1:]
+
+
+def reach(house, company, standing, still=()):
+    """A dict from all standings that can be come to, tuples of rooms, to the fewest goings."""
+    begin = rooms_by(company, standing)
+    found = {begin: 0}
+    edge = [begin]
+    while edge:
+        ahead = []
+        for rooms in edge:
+            for _, other in one_going_on(house, company, rooms, still):
+                if other not in found:
+                    found[other] = found[rooms] + 1
+                    ahead.append(other)
+        edge = ahead
+    return found
+
+
+def plain_shrunk(walk):
+    """A walk from which what goes straight back is taken out, from its end on."""
+    walk = list(walk)
+    place = len(walk) - 3
+    while place >= 0:
+        if walk[place] == walk[place + 2]:
+            del walk[place + 1:place + 3]
+            place = len(walk) - 2
+        place -= 1
+    return tuple(walk)
+
+
+def plain_read(standing, rope_walk):
+    rooms = [standing[who] for who in rope_walk]
+    return tuple(room for place, room in enumerate(rooms) if place == 0 or rooms[place - 1] != room)
+
+
+def shrunk_walks(house, begin, end, most):
+    """All shrunk walks of at most so many steps from a room to a room."""
+    found = []
+    edge = [(begin,)]
+    for _ in range(most + 1):
+        found += [walk for walk in edge if walk[-1] == end]
+        edge = [walk + (room,) for walk in edge for room in house.beside(walk[-1])
+                if len(walk) == 1 or walk[-2] != room]
+    return found
+
+
+def rope_walks(company, begin, most):
+    """All rope-walks of at most so many ropes from a folk."""
+    found = [(begin,)]
+    edge = [(begin,)]
+    for _ in range(most):
+        edge = [walk + (who,) for walk in edge for who in company.roped(walk[-1])]
+        found += edge
+    return found
+
+
+def plainly_taut(standing, walk):
+    rooms = [standing[who] for who in walk]
+    if len(rooms) < 2:
+        return False
+    for place in range(len(rooms)):
+        if rooms[place] in rooms[place + 1:place + 3]:
+            return False
+    return True
+
+
+def plainly_goes_on(company, standing, walk):
+    if not plainly_taut(standing, walk):
+        return False
+    again = [place for place in range(len(walk) - 2) if walk[place:place + 2] == walk[-2:]]
+    return walk[-1] in company.posts() or len(again) > 0
+
+
+def can_go_on(company, standing, walk):
+    """Whether any rope-walk that begins so goes on."""
+    if not plainly_taut(standing, walk):
+        return False
+    if plainly_goes_on(company, standing, walk):
+        return True
+    return any(can_go_on(company, standing, walk + (who,)) for who in company.roped(walk[-1]))
+
+
+def plainly_held(company, standing):
+    """The plain words of who is held, rising."""
+    told = []
+    for who in company.folk():
+        rooms = {standing[other] for other in company.roped(who) if can_go_on(company, standing, (who, other))}
+        if who in company.posts() or len(rooms) > 1:
+            told.append(who)
+    return told
+
+
+def plain_leads(house, company, one, other, folk, walk):
+    """The plain words of a lead: the walks of this folk's lot by its walk, None where they are no lead."""
+    walks = {folk: plain_shrunk(walk)}
+    edge = [folk]
+    while edge:
+        who = edge.pop()
+        for near in company.roped(who):
+            along = (plain_read(one, (near, who)) + walks[who][1:])
+            along = plain_shrunk(along + plain_read(other, (who, near))[1:])
+            if near not in walks:
+                walks[near] = along
+                edge.append(near)
+            if walks[near] != along:
+                return None
+    if any(len(walks[who]) > 1 for who in plainly_held(company, one) if who in walks):
+        return None
+    return walks
+
+
+def small_cases():
+    """Small houses with small companies: one lot and several, trees and rings of ropes, posts and none."""
+    return [
+        (one_room(), ropes_in_a_row("xyz")),
+        (square(), Company(["x"], [])),
+        (square(), ropes_in_a_row("xyz")),
+        (square(), ropes_in_a_row("xyz", ["z"])),
+        (square(), ropes_in_a_ring("vwxy")),
+        (square(), ropes_in_a_ring("vwxyz")),
+        (square(), ropes_in_a_ring("xyz", ["y"])),
+        (square(), Company(list("vwxy"), [("v", "w"), ("v", "x"), ("v", "y")], ["w", "y"])),
+        (tree(), Company(list("wxyz"), [("w", "x"), ("x", "y"), ("y", "w"), ("y", "z")])),
+        (tailed(), Company(list("wxy"), [("x", "y")], ["w"])),
+        (tailed(), ropes_in_a_row("wxyz", ["w", "z"])),
+        (grid(), ropes_in_a_ring("wxyz")),
+        (sheaf(), ropes_in_a_ring("wxyz", ["w"])),
+        (parts(), Company(["x", "y", "z"], [("y", "z")], [])),
+        (parts(), ropes_in_a_row("xy", ["x"])),
+    ]

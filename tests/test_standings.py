@@ -1,7 +1,7 @@
 import copy
 import unittest
 
-from samples import all_dicts, anything, grid, many_rooms, no_names, one_room, parts, square, tree
+from samples import all_dicts, anything, fits, grid, many_rooms, no_names, one_room, parts, square, tree
 from tautropes.company import Company
 from tautropes.errors import NoStanding, NotGone
 from tautropes.house import House
@@ -10,16 +10,6 @@ from tautropes.standings import goings, gone, is_standing, read
 
 def three_in_a_row(posts=()):
     return Company(["x", "y", "z"], [("x", "y"), ("z", "y")], posts)
-
-
-def fits(house, company, standing):
-    """The plain words of what a standing is, of a dict from all folk to rooms."""
-    doors = house.doors()
-    for one, other in company.ropes():
-        pair = (standing[one], standing[other])
-        if pair[0] != pair[1] and pair not in doors and pair[::-1] not in doors:
-            return False
-    return True
 
 
 CASES = [
