@@ -24,6 +24,13 @@ FUNCTIONS = {
     "papers": {"paper": TWO, "is_paper": TWO + " thing"},
     "ways": {"is_led": TWO, "fewest": TWO, "way_to": TWO, "lead_to": TWO, "least_of": TWO + " folk"},
     "tension": {"tension": "standing rope_walk", "rope_rings": "company folk", "slack": "standing rope_walk"},
+    "meeting": {"meetings": HERE, "meet": HERE + " room"},
+    "lots": {"lots": "house company", "standings_of": "house company", "lot": HERE},
+    "changed": {"tied": "company one other", "cut": "company one other", "posted": "company folk",
+                "freed": "company folk", "together": "one other ropes", "with_door": "house one other",
+                "without_door": "house one other"},
+    "named": {"named_house": "house names", "named_company": "company names",
+              "named_standing": "standing names rooms"},
 }
 CLASSES = {
     ("house", "House"): {"__init__": "self rooms doors", "__eq__": "self other", "rooms": "self", "doors": "self",
