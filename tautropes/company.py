@@ -26,6 +26,10 @@ class Company:
         return (isinstance(other, Company) and self._folk == other._folk
                 and self._ropes == other._ropes and self._posts == other._posts)
 
+    def twin(self):
+        """Another company equal to this one."""
+        return Company(self._folk, self._ropes, self._posts)
+
     def has_folk(self, thing):
         """Of anything: whether it is a folk of this company."""
         return thing in self._folk

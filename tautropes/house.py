@@ -29,6 +29,10 @@ class House:
                 if third > other and third in self._near[one]:
                     raise Three((one, other, third))
 
+    def twin(self):
+        """Another house equal to this one."""
+        return House(self._rooms, self._doors)
+
     def has_room(self, thing):
         """Of anything: whether it is a room of this house."""
         return thing in self._rooms
@@ -41,6 +45,10 @@ class House:
     def has_door(self, one, other):
         """Whether there is a door between these two rooms."""
         return other in self._near[one]
+
+    def side_by_side(self, one, other):
+        """Whether these two are one room, or have a door between."""
+        return one == other or self.has_door(one, other)
 
     def rooms(self):
         """All rooms, a tuple, rising."""

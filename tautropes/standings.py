@@ -9,11 +9,7 @@ def is_standing(house, company, thing):
         return False
     if not all([who in thing and house.has_room(thing[who]) for who in company.folk()]):
         return False
-    return all([_side_by_side(house, thing[one], thing[other]) for one, other in company.ropes()])
-
-
-def _side_by_side(house, one, other):
-    return one == other or house.has_door(one, other)
+    return all([house.side_by_side(thing[one], thing[other]) for one, other in company.ropes()])
 
 
 def need_standing(house, company, thing):

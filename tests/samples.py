@@ -297,3 +297,32 @@ def small_cases():
         (parts(), Company(["x", "y", "z"], [("y", "z")], [])),
         (parts(), ropes_in_a_row("xy", ["x"])),
     ]
+
+
+def over(house, turns, sheets=2):
+    """A house of so many rooms over each room, and its fold: (above, fold).
+
+    The rooms over a room are called as it, with x, y or z behind. A door, (lesser, greater), with a turn leads from
+    sheet k over its lesser room to sheet k + turn over its greater, others stay in their sheet.
+    """
+    signs = "xyz"[:sheets]
+    rooms = [room + sign for room in house.rooms() for sign in signs]
+    doors = [(one + signs[k], other + signs[(k + turns.get((one, other), 0)) % sheets])
+             for one, other in house.doors() for k in range(sheets)]
+    return House(rooms, doors), {room: room[:-1] for room in rooms}
+
+
+def folded():
+    """Houses over others: (above, below, fold)."""
+    told = []
+    for below, turns, sheets in (
+            (square(), {("a", "d"): 1}, 2), (square(), {("a", "d"): 1}, 3), (square(), {}, 2), (tree(), {}, 2),
+            (one_room(), {}, 3), (grid(), {("a", "b"): 1}, 2), (grid(), {("a", "b"): 1, ("b", "c"): 2}, 3),
+            (two_rings(), {("a", "d"): 1}, 2), (parts(), {("a", "e"): 1}, 2), (tailed(), {("a", "d"): 2}, 3),
+            (sheaf(), {("a", "x"): 1, ("b", "z"): 1}, 2)):
+        above, fold = over(below, turns, sheets)
+        told.append((above, below, fold))
+    told.append((square(), square(), {"a": "b", "b": "c", "c": "d", "d": "a"}))
+    told.append((square(), square(), {"a": "a", "b": "d", "c": "c", "d": "b"}))
+    told.append((square(), square(), {room: room for room in "abcd"}))
+    return told

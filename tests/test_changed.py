@@ -1,7 +1,7 @@
 import copy
 import unittest
 
-from samples import (all_standings, anything, grid, houses, no_names, one_room, parts, reach, ring_of, rooms_by,
+from samples import (all_standings, anything, grid, houses, no_names, one_room, parts, reach, rooms_by,
                      ropes_in_a_ring, ropes_in_a_row, small_cases, square, tailed, tree, two_rings)
 from tautropes.changed import cut, freed, posted, tied, together, with_door, without_door
 from tautropes.company import Company

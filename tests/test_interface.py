@@ -1,4 +1,4 @@
-"""What has landed of the interface: names, arguments, and the file in which each is defined."""
+"""The interface: names, arguments, and the file in which each is defined."""
 
 import importlib
 import inspect
@@ -31,17 +31,33 @@ FUNCTIONS = {
                 "without_door": "house one other"},
     "named": {"named_house": "house names", "named_company": "company names",
               "named_standing": "standing names rooms"},
+    "folds": {"is_fold": "above below thing", "lifted_walk": "above below fold room walk",
+              "lowered": "fold standing", "lifted": "above below fold company standing folk room"},
+    "balls": {"ball": "house room steps"},
+    "texts": {"show_hall": "hall", "read_hall": "text"},
 }
 CLASSES = {
     ("house", "House"): {"__init__": "self rooms doors", "__eq__": "self other", "rooms": "self", "doors": "self",
                          "beside": "self room", "parts": "self", "steps": "self one other", "way": "self one other"},
     ("company", "Company"): {"__init__": "self folk ropes posts", "__eq__": "self other", "folk": "self",
                              "ropes": "self", "posts": "self", "roped": "self folk", "lots": "self"},
+    ("hall", "Hall"): {"__init__": "self house company standing", "__eq__": "self other", "go": "self folk room",
+                       "tie": "self one other", "cut": "self one other", "post": "self folk", "free": "self folk",
+                       "house": "self", "company_at": "self moment", "standing_at": "self moment", "acts": "self",
+                       "back": "self", "on": "self", "can": "self other", "home": "self", "wants": "self folk room",
+                       "often": "self", "trail": "self folk"},
 }
+DEFAULTS = {("Company", "__init__"): {"posts": ()}, ("Hall", "company_at"): {"moment": None},
+            ("Hall", "standing_at"): {"moment": None}}
 
 
 def arguments(function):
     return list(inspect.signature(function).parameters)
+
+
+def defaults(function):
+    told = inspect.signature(function).parameters
+    return {name: told[name].default for name in told if told[name].default is not inspect.Parameter.empty}
 
 
 class Interface(unittest.TestCase):
@@ -52,6 +68,7 @@ class Interface(unittest.TestCase):
                 function = vars(module)[word]
                 self.assertEqual(function.__module__, module.__name__, word)
                 self.assertEqual(arguments(function), names.split(), word)
+                self.assertEqual(defaults(function), {}, word)
 
     def test_classes(self):
         for (name, word), methods in CLASSES.items():
@@ -60,6 +77,7 @@ class Interface(unittest.TestCase):
             self.assertEqual(made.__module__, module.__name__, word)
             for method, names in methods.items():
                 self.assertEqual(arguments(vars(made)[method]), names.split(), method)
+                self.assertEqual(defaults(vars(made)[method]), DEFAULTS.get((word, method), {}), method)
 
 
 if __name__ == "__main__":

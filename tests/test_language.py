@@ -39,7 +39,8 @@ def imported(tree):
 
 
 def defined(tree):
-    return {node.name for node in tree.body if isinstance(node, (ast.FunctionDef, ast.ClassDef))}
+    names = {node.name for node in tree.body if isinstance(node, (ast.FunctionDef, ast.ClassDef))}
+    return names | {node.targets[0].id for node in tree.body if isinstance(node, ast.Assign)}
 
 
 class Files(unittest.TestCase):
@@ -49,7 +50,7 @@ class Files(unittest.TestCase):
             self.assertTrue(all(sign == "\n" or " " <= sign <= "~" for sign in text), name)
             rows = text.split("\n")
             self.assertTrue(len(rows) <= 399 and max(len(row) for row in rows) <= 120, name)
-            self.assertNotIn("\\", text)
+            self.assertNotIn("\\", text.replace("\\n", ""))
 
     def test_only_allowed_statements_stand_there(self):
         barred = (ast.GeneratorExp, ast.Global, ast.AsyncFunctionDef, ast.Import, ast.Div, ast.Set, ast.AnnAssign)

@@ -163,7 +163,8 @@ class Told(unittest.TestCase):
 
     def test_what_is_no_standing(self):
         company = ropes_in_a_row("xy")
-        for thing in anything() + [{"x": "a"}, {"x": "a", "y": "c"}, {"x": "a", "y": "b", "z": "a"}, {"x": "a", "y": 1}]:
+        wrong = [{"x": "a"}, {"x": "a", "y": "c"}, {"x": "a", "y": "b", "z": "a"}, {"x": "a", "y": 1}]
+        for thing in anything() + wrong:
             for call in (meetings, lambda *handed: meet(*handed, "a"), lambda *handed: meet(*handed, None)):
                 with self.assertRaises(NoStanding) as caught:
                     call(square(), company, thing)

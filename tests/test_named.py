@@ -19,6 +19,10 @@ def other_names(names):
     return dict(zip(names, list(names[2:]) + ["zz" + name[:6] for name in names[:2]]))
 
 
+def both_called(pairs, names):
+    return sorted(tuple(sorted((names[one], names[other]))) for one, other in pairs)
+
+
 def back(names):
     return {names[name]: name for name in names}
 
@@ -36,7 +40,7 @@ class Houses(unittest.TestCase):
             called = named_house(house, names)
             self.assertIs(type(called), House)
             self.assertEqual(called.rooms(), tuple(sorted(names.values())))
-            self.assertEqual(called.doors(), sorted(tuple(sorted((names[one], names[other]))) for one, other in told[1]))
+            self.assertEqual(called.doors(), both_called(told[1], names))
             for one in house.rooms():
                 self.assertEqual(called.beside(names[one]), sorted(names[room] for room in house.beside(one)))
                 for other in house.rooms():
@@ -68,7 +72,7 @@ class Companies(unittest.TestCase):
             called = named_company(company, names)
             self.assertIs(type(called), Company)
             self.assertEqual(called.folk(), tuple(sorted(names.values())))
-            self.assertEqual(called.ropes(), sorted(tuple(sorted((names[one], names[other]))) for one, other in told[1]))
+            self.assertEqual(called.ropes(), both_called(told[1], names))
             self.assertEqual(called.posts(), tuple(sorted(names[who] for who in told[2])))
             self.assertEqual(named_company(called, back(names)), company)
             self.assertEqual((names, (company.folk(), company.ropes(), company.posts())), (kept, told))

@@ -3,7 +3,7 @@ import unittest
 
 from samples import (all_standings, anything, fits, many_rooms, parts, plain_read, plain_shrunk, plainly_goes_on,
                      plainly_held, reach, ring_of, rooms_by, rope_walks, ropes_in_a_ring, ropes_in_a_row, row_of, sheaf,
-                     shrunk_walks, small_cases, square, standing_of, tailed)
+                     shrunk_walks, small_cases, square, standing_of)
 from tautropes.company import Company
 from tautropes.errors import NoStanding
 from tautropes.papers import is_paper, paper
@@ -175,8 +175,9 @@ class OfWalk(unittest.TestCase):
         for wrong in (["walk", tuple("wxyz"), (), ()], ("walk", list("wxyz"), (), ()), ("walk", tuple("wxyz"), ()),
                       ("walk", tuple("wxyz"), (), (), ()), ("walk", tuple("wxy"), (), ()), ("walk", "wxyz", (), ()),
                       ("walk", tuple("xyz"), (), ()), ("walk", ("w", "z"), (), ()), ("walk", (), (), ()),
-                      ("walk", tuple("wxyz"), [], ()), ("walk", tuple("wxyz"), (), None), ("held", tuple("wxyz"), (), ()),
-                      ("walk", tuple("wxw"), (), ()), ("walk", ("w",), (), ()), ("walk", tuple("wxyzq"), (), ())):
+                      ("walk", tuple("wxyz"), [], ()), ("walk", tuple("wxyz"), (), None),
+                      ("held", tuple("wxyz"), (), ()), ("walk", tuple("wxw"), (), ()), ("walk", ("w",), (), ()),
+                      ("walk", tuple("wxyzq"), (), ())):
             self.assertIs(told(wrong), False, wrong)
         # unlike, but they shrink to one walk
         self.assertIs(told(right, there=standing_of("wxyz", "abbc")), False)

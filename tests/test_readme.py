@@ -14,10 +14,11 @@ class Readme(unittest.TestCase):
             if row.startswith((".ci", "PYTHONPATH")):
                 continue
             code, _, value = row.partition("  # ")
-            exec(code, names)
             if value:
                 shown += 1
-                self.assertEqual(eval(code, names), eval(value, names), row)
+                self.assertEqual(eval(code.strip(), names), eval(value, names), row)
+            else:
+                exec(code, names)
         self.assertTrue(shown >= 10)
 
 

@@ -2,7 +2,7 @@ import copy
 import unittest
 
 from samples import (all_standings, anything, fits, many_rooms, one_room, parts, plainly_goes_on, plainly_held,
-                     plainly_taut, reach, ring_of, rooms_by, rope_walks, ropes_in_a_ring, ropes_in_a_row, row_of,
+                     plainly_taut, reach, ring_of, rope_walks, ropes_in_a_ring, ropes_in_a_row, row_of,
                      sheaf, small_cases, square, standing_of, tailed)
 from tautropes.company import Company
 from tautropes.errors import NoFolk, NotHeld, NoStanding

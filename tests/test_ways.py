@@ -49,7 +49,8 @@ def wider_cases():
         (tailed(), ropes_in_a_ring("uvwxyz"), standing_of("uvwxyz", "pabcda")),
         (tailed(), Company(list("uvwxyz"), ring_of("vwxyz") + [("u", "v")]), standing_of("uvwxyz", "paabcd")),
         (two_rings(), ropes_in_a_row("wxyz", ["z"]), standing_of("wxyz", "abcd")),
-        (sheaf(), Company(list("uvwxyz"), ring_of("uvwxy") + [("y", "z"), ("z", "w")]), standing_of("uvwxyz", "xaybbb")),
+        (sheaf(), Company(list("uvwxyz"), ring_of("uvwxy") + [("y", "z"), ("z", "w")]),
+         standing_of("uvwxyz", "xaybbb")),
         (square(), Company(list("stvwxyz"), ring_of("vwxyz") + [("s", "t")]), standing_of("stvwxyz", "abaabcd")),
         (tree(), Company(list("vwxyz"), row_of("vwxyz") + [("v", "x")]), standing_of("vwxyz", "aabde")),
     ]
