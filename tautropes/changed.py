@@ -1,38 +1,33 @@
-"""Companies and houses with one thing more or one out; two companies put together."""
+"""Companies and houses with one thing more or one out; two companies put together.
+
+What can't be one thing more the new company or house refuses itself, as the last of its ropes, posts or doors.
+"""
 
 from tautropes.company import Company
 from tautropes.errors import Alike, NoDoor, NoPost, NoRope
 from tautropes.house import House
-from tautropes.pairs import rising_pair
 
 
 def tied(company, one, other):
     """The company with a rope more."""
-    if not _are_two_folk(company, one, other) or company.has_rope(one, other):
-        raise NoRope((one, other))
     return Company(company.folk(), company.ropes() + [(one, other)], company.posts())
 
 
 def cut(company, one, other):
     """The company with a rope out."""
-    if not _are_two_folk(company, one, other) or not company.has_rope(one, other):
+    left = _without(company.ropes(), (one, other))
+    if len(left) == len(company.ropes()):
         raise NoRope((one, other))
-    return Company(company.folk(), _without(company.ropes(), (one, other)), company.posts())
-
-
-def _are_two_folk(company, one, other):
-    """Of anything: whether these are two unlike folk of this company."""
-    return company.has_folk(one) and company.has_folk(other) and one != other
+    return Company(company.folk(), left, company.posts())
 
 
 def _without(pairs, out):
-    return [pair for pair in pairs if pair != rising_pair(out)]
+    """These pairs but one, told either way about, of anything."""
+    return [pair for pair in pairs if pair not in (out, out[::-1])]
 
 
 def posted(company, folk):
     """The company with a post more."""
-    if not company.has_folk(folk) or folk in company.posts():
-        raise NoPost(folk)
     return Company(company.folk(), company.ropes(), company.posts() + (folk,))
 
 
@@ -75,18 +70,12 @@ def _is_between(one, other, thing):
 
 def with_door(house, one, other):
     """The house with a door more."""
-    if not _are_two_rooms(house, one, other) or house.has_door(one, other):
-        raise NoDoor((one, other))
     return House(house.rooms(), house.doors() + [(one, other)])
 
 
 def without_door(house, one, other):
     """The house with a door out."""
-    if not _are_two_rooms(house, one, other) or not house.has_door(one, other):
+    left = _without(house.doors(), (one, other))
+    if len(left) == len(house.doors()):
         raise NoDoor((one, other))
-    return House(house.rooms(), _without(house.doors(), (one, other)))
-
-
-def _are_two_rooms(house, one, other):
-    """Of anything: whether these are two unlike rooms of this house."""
-    return house.has_room(one) and house.has_room(other) and one != other
+    return House(house.rooms(), left)

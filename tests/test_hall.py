@@ -481,6 +481,12 @@ class Equality(Holding):
         self.assertTrue(one != other)
         other.go("x", "d")
         self.assertTrue(one == other)
+        for hall in (one, other):
+            hall.cut("x", "y")
+            hall.post("y")
+        self.assertTrue(one == other)
+        one.free("y")
+        self.assertFalse(one == other)
 
     def test_what_was_taken_back_does_not_count(self):
         one, other = row_hall(), row_hall()

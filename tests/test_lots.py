@@ -147,6 +147,22 @@ class TooManyOfThem(unittest.TestCase):
         self.assertEqual(sum(len(some) for some in found), 2000)
         self.assertEqual(lot(house, company, standing_of("wxyz", "jjjj")), [("j", "j", "j", "j")])
 
+    def stars(self, alone):
+        """Four stars of rooms and so many rooms alone, and five folk of whom four are roped to the fifth."""
+        names = [one + other for one in "abcdefgh" for other in "vwxyz"][:18 + alone]
+        doors = [(names[begin], names[begin + k]) for begin, many in ((0, 4), (5, 4), (10, 3), (14, 3))
+                 for k in range(1, many + 1)]
+        return House(names, doors), Company(list("mwxyz"), [("m", who) for who in "wxyz"])
+
+    def test_just_two_thousand_of_one_lot_and_one_more(self):
+        house, company = self.stars(14)
+        self.assertEqual(len(standings_of(house, company)), 2000)
+        self.assertEqual(len(lots(house, company)), 18)
+        self.assertEqual(len(lot(house, company, {who: "av" for who in "mwxyz"})), 5 ** 4 + 4 * 2 ** 4)
+        house, company = self.stars(15)
+        self.refused(house, company, {who: "av" for who in "mwxyz"})
+        self.refused(house, company, {who: "gx" for who in "mwxyz"})
+
     def test_one_more(self):
         # twenty-nine rooms, and sixty-nine standings of the two that are roped
         company = Company(list("xyz"), [("y", "z")])
